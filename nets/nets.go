@@ -90,3 +90,22 @@ func Of(bridges int, segs ...[]int) lan.Net {
 	}
 	return n
 }
+
+// Same tells whether two nets that go on are alike in all that they tell.
+func Same(a, b *lan.Lan, segs int) bool {
+	as, bs := a.Bridges(), b.Bridges()
+	if len(as) != len(bs) || a.Flying() != b.Flying() || a.Bad() != b.Bad() {
+		return false
+	}
+	for seg := range segs {
+		if a.Up(seg) != b.Up(seg) {
+			return false
+		}
+	}
+	for i := range as {
+		if !samples.Same(as[i], bs[i]) || !slices.Equal(a.Known(i), b.Known(i)) {
+			return false
+		}
+	}
+	return true
+}
