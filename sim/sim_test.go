@@ -151,18 +151,18 @@ func TestDrain(t *testing.T) {
 	}
 }
 
-// many is a net in which more flies than Most: a segment of many ports of two bridges, that propose all at once, and begin anew.
+// many is a net in which more flies than Most: a segment of many bridges' ports, that propose all at once, and begin anew.
 func many(least int) *lan.Lan {
 	var seg []int
 	for k := range 62 {
-		seg = append(seg, k%2)
+		seg = append(seg, k%31)
 	}
-	n := nets.Of(2, seg)
+	n := nets.Of(31, seg)
 	n.Hold = 10
 	l := lan.New(n)
 	l.Link(0, true)
 	for k := 0; l.Flying() < least; k++ {
-		l.Version(k%2, true)
+		l.Version(k%31, true)
 	}
 	return l
 }
