@@ -193,9 +193,11 @@ func TestOwn(t *testing.T) {
 			x.Link(seg, true)
 		}
 		x.Version(0, true)
-		bs := x.Bridges()
-		bs[0].Ports[0] = api.Port{}
-		bs[1].ID = 5
+		if x == l {
+			bs := x.Bridges()
+			bs[0].Ports[0] = api.Port{}
+			bs[1].ID = 5
+		}
 		for x.Deliver() {
 		}
 	}

@@ -124,7 +124,7 @@ func TestCut(t *testing.T) {
 // R1: nets of which it isn't are no panic.
 func TestOthers(t *testing.T) {
 	l := settled(t, ring())
-	for _, n := range []lan.Net{{}, nets.Of(1, []int{0}), nets.Of(6, []int{0, 1, 2, 3}, []int{4, 5}, []int{0, 5}, []int{2, 5}), {Segs: [][]lan.Place{{at(-1, 0), at(9, 9), at(0, -1), at(0, 0)}}}} {
+	for _, n := range []lan.Net{{}, nets.Of(1, []int{0}), nets.Of(6, []int{0, 1, 2, 3}, []int{4, 5}, []int{0, 5}, []int{2, 5}), {Segs: [][]lan.Place{{at(-1, 0), at(3, 0), at(9, 9), at(0, -1), at(0, 2), at(0, 0)}}}} {
 		loops.Free(l, n)
 		loops.Cut(l, n)
 		if loops.Whole(l, n) {

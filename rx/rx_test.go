@@ -100,6 +100,19 @@ func TestTake(t *testing.T) {
 	}
 }
 
+// P9.1: each port takes in what comes to it, the first one and the last one, too.
+func TestTakeEach(t *testing.T) {
+	b := one()
+	b.Ports = []api.Port{{Enabled: true}, {Enabled: true}, {Enabled: true}}
+	for i := range b.Ports {
+		want := samples.Copy(b)
+		want.Ports[i].Msg, want.Ports[i].Flags.RcvdBpdu = api.Msg{Kind: api.Tcn}, true
+		if !rx.Take(&b, i, api.Msg{Kind: api.Tcn}) || !samples.Same(b, want) {
+			t.Errorf("port %d: %+v", i, b)
+		}
+	}
+}
+
 // P9.2: the example: what is taken in is handed on.
 func TestExample(t *testing.T) {
 	b := one()
